@@ -14,6 +14,9 @@ func Type(t api.Type) api.Type {
 	return t
 }
 
+// Preds are a context of which no list is another one's.
+func Preds(l []api.Pred) []api.Pred { return each(l, pred) }
+
 // Binds are definitions of which no list is another one's.
 func Binds(l []api.Bind) []api.Bind { return each(l, bind) }
 
@@ -23,7 +26,7 @@ func bind(b api.Bind) api.Bind {
 }
 
 func scheme(s api.Scheme) api.Scheme {
-	return api.Scheme{Vars: slices.Clone(s.Vars), Context: each(s.Context, pred), Type: Type(s.Type)}
+	return api.Scheme{Vars: slices.Clone(s.Vars), Context: Preds(s.Context), Type: Type(s.Type)}
 }
 
 func pred(p api.Pred) api.Pred {

@@ -98,6 +98,12 @@ func TestBinds(t *testing.T) {
 	}
 }
 
+func TestPreds(t *testing.T) {
+	for _, l := range [][]api.Pred{binds()[0].Sig.Context, roomyOf(reflect.ValueOf(binds()[0].Sig.Context)).Interface().([]api.Pred), binds()[0].Sig.Context[:0], nil, {{}}} {
+		isOwn(t, l, own.Preds(l), own.Preds(l))
+	}
+}
+
 func TestType(t *testing.T) {
 	for _, x := range []api.Type{binds()[0].Sig.Type, roomyOf(reflect.ValueOf(binds()[0].Sig.Type)).Interface().(api.Type), types.Var("a"), {Kind: api.TVar, Name: "a", Args: make([]api.Type, 0, 2)}, {Kind: api.TAll, Name: "a", Args: []api.Type{types.Con("L", types.Var("a"))}}, {}} {
 		isOwn(t, x, own.Type(x), own.Type(x))
